@@ -1,0 +1,102 @@
+"""Point 1 and the interface: what stands where, and what the program does not use."""
+
+import ast
+import builtins
+import unittest
+from pathlib import Path
+
+FOLDER = Path(__file__).resolve().parent.parent / "turnprimes"
+
+# What the interface lists for each file: functions with their parameters, and classes.
+FUNCTIONS = {
+    "numbers.py": {
+        "is_number": "number", "check_number": "number", "check_not_zero": "number", "is_whole": "number",
+        "of_integers": "integers", "opposite": "number", "conjugate": "number", "norm": "number",
+        "added": "one, other", "less": "one, other", "times": "number, integer", "product": "one, other",
+        "product_of": "numbers", "units": "", "is_unit": "number", "associates": "number", "canonical": "number",
+        "unit_behind": "number", "are_associates": "one, other", "content": "number", "primitive_part": "number",
+        "is_primitive": "number",
+    },
+    "notation.py": {"format_numbers": "numbers", "parse_numbers": "text"},
+}
+CLASSES = {
+    "errors.py": [
+        "TurnprimesError", "InvalidNumber", "InvalidTurn", "InvalidWord", "InvalidQuestion", "NothingToUndo",
+        "NothingToRedo", "UnknownName", "InvalidNotation", "InvalidPaper", "TooMany", "NameInUse",
+    ],
+}
+
+LIBRARY = {
+    "heapq": {"heappush", "heappop", "heapify", "heapreplace", "heappushpop"},
+    "math": {"gcd", "lcm", "isqrt", "comb", "perm", "factorial"},
+    "itertools": {
+        "product", "combinations", "permutations", "chain", "accumulate", "pairwise", "islice", "zip_longest",
+    },
+    "collections": {"defaultdict", "deque"},
+}
+BUILTINS = set(
+    "len range enumerate zip min max sum abs sorted reversed int str bool list tuple dict set isinstance ord repr any"
+    " all divmod pow getattr hasattr setattr iter next map type property staticmethod classmethod super Exception"
+    " ValueError TypeError KeyError IndexError LookupError ZeroDivisionError ArithmeticError OverflowError RuntimeError"
+    " NotImplementedError AttributeError StopIteration NotImplemented object".split()
+)
+
+
+def files():
+    return sorted(FOLDER.glob("*.py"))
+
+
+def tree(path):
+    return ast.parse(path.read_text(encoding="utf-8"))
+
+
+class InterfaceTest(unittest.TestCase):
+    def test_functions_are_defined_in_their_files_with_their_parameters(self):
+        for name, functions in FUNCTIONS.items():
+            defined = {node.name: node for node in tree(FOLDER / name).body if isinstance(node, ast.FunctionDef)}
+            for function, parameters in functions.items():
+                with self.subTest(file=name, function=function):
+                    self.assertEqual(ast.unparse(defined[function].args), parameters)
+
+    def test_classes_are_defined_in_their_files(self):
+        for name, classes in CLASSES.items():
+            defined = [node.name for node in tree(FOLDER / name).body if isinstance(node, ast.ClassDef)]
+            self.assertEqual(sorted(defined), sorted(classes))
+
+    def test_the_file_of_the_package_defines_nothing(self):
+        self.assertEqual(tree(FOLDER / "__init__.py").body, [])
+
+
+class NothingFromOutsideTest(unittest.TestCase):
+    def test_the_folder_holds_program_files_alone(self):
+        for path in FOLDER.iterdir():
+            self.assertTrue(path.suffix == ".py" or path.name == "__pycache__", path.name)
+
+    def test_imports(self):
+        for path in files():
+            for node in ast.walk(tree(path)):
+                self.assertNotIsInstance(node, ast.Import, path.name)
+                if not isinstance(node, ast.ImportFrom) or node.module.startswith("turnprimes."):
+                    continue
+                self.assertIn(node.module, LIBRARY, path.name)
+                self.assertLessEqual({alias.name for alias in node.names}, LIBRARY[node.module], path.name)
+
+    def test_builtins(self):
+        for path in files():
+            names = {node.id for node in ast.walk(tree(path)) if isinstance(node, ast.Name)}
+            self.assertLessEqual(names & set(dir(builtins)), BUILTINS, path.name)
+
+    def test_sizes_and_characters(self):
+        for path in files():
+            text = path.read_text(encoding="utf-8")
+            self.assertTrue(all(sign == "\n" or " " <= sign <= "~" for sign in text), path.name)
+            lines = text.splitlines()
+            self.assertLess(len(lines), 400, path.name)
+            self.assertLessEqual(max(map(len, lines), default=0), 120, path.name)
+            for node in ast.walk(tree(path)):
+                if isinstance(node, ast.FunctionDef):
+                    self.assertLessEqual(node.end_lineno - node.lineno + 1, 40, node.name)
+
+
+if __name__ == "__main__":
+    unittest.main()
