@@ -18,6 +18,15 @@ FUNCTIONS = {
         "is_primitive": "number",
     },
     "notation.py": {"format_numbers": "numbers", "parse_numbers": "text"},
+    "turns.py": {
+        "turn_of": "number", "check_turn": "turn", "number_of_turn": "turn", "composed": "first, second",
+        "inverse": "turn", "order_of": "turn", "axis_of": "turn", "are_one_turn": "one, other",
+        "turned": "turn, point",
+    },
+    "lattices.py": {
+        "common_base": "turns", "common_index": "turns", "is_common": "turns, point", "parts_in_base": "turns, point",
+    },
+    "names.py": {"is_name": "text"},
 }
 CLASSES = {
     "errors.py": [
