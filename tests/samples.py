@@ -3,6 +3,7 @@
 import random
 from fractions import Fraction
 from itertools import product as every
+from math import isqrt
 
 ZERO = (0, 0, 0, 0)
 ONE = (2, 0, 0, 0)
@@ -27,6 +28,10 @@ NO_NUMBERS = [
     (1, 1, 1, 1, 1),
     (0, 0, 0, 0, 0),
 ]
+
+# The norm is a prime above 10 ** 12, which counts as none.
+GREAT_PRIME = (2 * 10 ** 6, 12, 10, 0)
+NO_PRIME_NORMS = [ZERO, ONE, (1, 1, 1, 1), (4, 0, 0, 0), (6, 0, 0, 0), (4, 4, 2, 0), (6, 2, 2, 2), GREAT_PRIME]
 
 # The rules of point 3 for the signs: what two of 1, i, j, k make, as a sign and one of them.
 RULES = {
@@ -70,3 +75,39 @@ def product_by_rules(one, other):
     doubled = [2 * parts[name] for name in names]
     assert all(part.denominator == 1 for part in doubled)
     return tuple([int(part) for part in doubled])
+
+
+def great_primes_below(most, many):
+    """The greatest primes below an integer, found by trying all divisors."""
+    found = []
+    value = most
+    while len(found) < many:
+        value -= 1
+        if value == 2 or value % 2 and all(value % divisor for divisor in range(3, isqrt(value) + 1, 2)):
+            found.append(value)
+    return found
+
+
+def number_of_norm(value):
+    """A whole number with the norm, by trying the greatest squares first."""
+    a = isqrt(value)
+    while True:
+        rest = value - a * a
+        for b in range(isqrt(rest) + 1):
+            for c in range(min(b, isqrt(rest - b * b)) + 1):
+                d = isqrt(rest - b * b - c * c)
+                if d * d == rest - b * b - c * c:
+                    return (2 * a, 2 * b, 2 * c, 2 * d)
+        a -= 1
+
+
+def primes_in(number):
+    """The primes of the norm of a number, ascending, each as often as it divides it."""
+    found = []
+    rest, divisor = sum([part * part for part in number]) // 4, 2
+    while rest > 1:
+        while rest % divisor == 0:
+            rest //= divisor
+            found.append(divisor)
+        divisor += 1
+    return found

@@ -18,6 +18,26 @@ FUNCTIONS = {
         "is_primitive": "number",
     },
     "notation.py": {"format_numbers": "numbers", "parse_numbers": "text"},
+    "dividing.py": {
+        "divided_left": "number, divisor", "divided_right": "number, divisor", "left_quotient": "number, divisor",
+        "right_quotient": "number, divisor", "is_left_divisor": "divisor, number",
+        "is_right_divisor": "divisor, number",
+    },
+    "common.py": {
+        "left_common": "one, other", "left_sum": "one, other", "right_common": "one, other", "right_sum": "one, other",
+        "canonical_ahead": "number", "least_multiple": "one, other", "are_apart": "one, other",
+        "common_of": "numbers", "is_sum": "one, other, number", "both_sums": "one, other, number",
+    },
+    "factors.py": {
+        "whole_primes": "value", "is_prime": "value", "primes_of": "prime", "left_primes": "number, prime",
+        "row_of": "number, primes", "number_by": "row, unit", "row_of_factors": "factors",
+        "same_factoring": "one, other", "moved": "factors, place, unit",
+    },
+    "rows.py": {
+        "cancels": "one, other", "is_reduced_row": "row", "shows_primitive": "row",
+        "check_factoring": "number, factors", "factorings": "number, primes, *, limit=2000",
+        "factoring_count": "number, primes, *, limit=2000", "order_count": "number",
+    },
     "turns.py": {
         "turn_of": "number", "check_turn": "turn", "number_of_turn": "turn", "composed": "first, second",
         "inverse": "turn", "order_of": "turn", "axis_of": "turn", "are_one_turn": "one, other",
