@@ -47,12 +47,31 @@ FUNCTIONS = {
         "common_base": "turns", "common_index": "turns", "is_common": "turns, point", "parts_in_base": "turns, point",
     },
     "names.py": {"is_name": "text"},
+    "lists.py": {
+        "number_count": "value", "primitive_count": "value", "turn_count": "value",
+        "numbers_of": "value, *, limit=20000", "primitive_of": "value, *, limit=20000",
+        "by_content": "value, *, limit=20000", "primitive_at": "value, place", "place_of": "number",
+        "opposite_place": "value, place",
+    },
+    "desk.py": {"decide": "kind, numbers"},
+    "commands.py": {"split_words": "line", "is_command": "words"},
 }
 CLASSES = {
     "errors.py": [
         "TurnprimesError", "InvalidNumber", "InvalidTurn", "InvalidWord", "InvalidQuestion", "NothingToUndo",
         "NothingToRedo", "UnknownName", "InvalidNotation", "InvalidPaper", "TooMany", "NameInUse",
     ],
+    "desk.py": ["Desk"],
+    "session.py": ["Session"],
+}
+METHODS = {
+    ("desk.py", "Desk"): {
+        "__init__": "self", "set_number": "self, name, number", "make": "self, name, deed, names",
+        "remove_number": "self, name", "ask": "self, name, kind, names", "drop": "self, name", "undo": "self",
+        "redo": "self", "change_all": "self, changes", "number_names": "self", "question_names": "self",
+        "number": "self, name", "question": "self, name", "answer": "self, name", "answers": "self",
+    },
+    ("session.py", "Session"): {"__init__": "self", "run": "self, text"},
 }
 
 LIBRARY = {
@@ -91,6 +110,15 @@ class InterfaceTest(unittest.TestCase):
         for name, classes in CLASSES.items():
             defined = [node.name for node in tree(FOLDER / name).body if isinstance(node, ast.ClassDef)]
             self.assertEqual(sorted(defined), sorted(classes))
+
+    def test_methods_are_defined_in_their_classes_with_their_parameters(self):
+        for (name, owner), methods in METHODS.items():
+            body, = [node.body for node in tree(FOLDER / name).body if getattr(node, "name", None) == owner]
+            defined = {node.name: node for node in body if isinstance(node, ast.FunctionDef)}
+            for method, parameters in methods.items():
+                with self.subTest(owner=owner, method=method):
+                    self.assertEqual(ast.unparse(defined[method].args), parameters)
+                    self.assertEqual(defined[method].decorator_list, [])
 
     def test_the_file_of_the_package_defines_nothing(self):
         self.assertEqual(tree(FOLDER / "__init__.py").body, [])

@@ -13,8 +13,10 @@ from turnprimes.numbers import (
 # All canonical numbers are told for primes up to this one.
 MOST_PRIME = 1000
 
+# Integers are parted into primes up to this one.
+MOST = 10 ** 12
+
 _ONE = (2, 0, 0, 0)
-_MOST = 10 ** 12
 
 # The least integer that is no prime and passes for all of these is 2152302898747, above the bound.
 _BASES = (2, 3, 5, 7, 11)
@@ -22,7 +24,7 @@ _BASES = (2, 3, 5, 7, 11)
 
 def whole_primes(value):
     """Return the primes of an integer, ascending, each with its power."""
-    if not 1 <= value <= _MOST:
+    if not 1 <= value <= MOST:
         raise InvalidQuestion("the integer is below 1 or above 10 ** 12")
     found = []
     rest, divisor = value, 2
@@ -42,7 +44,7 @@ def whole_primes(value):
 
 def is_prime(value):
     """Tell whether an integer from 1 to 10 ** 12 is a prime; False for all others."""
-    if not 2 <= value <= _MOST:
+    if not 2 <= value <= MOST:
         return False
     for base in _BASES:
         if value % base == 0:
@@ -135,11 +137,15 @@ def check_row(row):
         raise InvalidQuestion("the norm of a number is no prime")
 
 
+def primes_of_norm(number):
+    """Return the primes of the norm of a number, ascending, each as often as it divides it."""
+    return [prime for prime, power in whole_primes(norm(number)) for _ in range(power)]
+
+
 def check_primes_of(number, primes):
     """Raise InvalidNumber or InvalidQuestion if the primes are not those of the norm of the number in some order."""
     check_not_zero(number)
-    expected = [prime for prime, power in whole_primes(norm(number)) for _ in range(power)]
-    if sorted(primes) != expected:
+    if sorted(primes) != primes_of_norm(number):
         raise InvalidQuestion("these are not the primes of the norm")
 
 

@@ -136,13 +136,14 @@ def associates(number):
 def canonical(number):
     """Return the greatest associate of the number."""
     check_not_zero(number)
-    return max([_product(number, unit) for unit in _UNITS])
+    greatest, _ = _greatest_associate(number)
+    return greatest
 
 
 def unit_behind(number):
     """Return the unit with the canonical associate ahead of which it is the number."""
     check_not_zero(number)
-    _, leading = max([(_product(number, unit), unit) for unit in _UNITS])
+    _, leading = _greatest_associate(number)
     # The conjugate of a unit takes back what the unit does.
     return _conjugate(leading)
 
@@ -178,6 +179,15 @@ def is_primitive(number):
 def _check_both(one, other):
     check_number(one)
     check_number(other)
+
+
+def _greatest_associate(number):
+    """Return the greatest associate of the number, and the unit behind the number that makes it."""
+    a, b, c, d = number
+    # The first parts alone leave few units, often one, so few whole products are needed.
+    firsts = [a * e - b * f - c * g - d * h for e, f, g, h in _UNITS]
+    most = max(firsts)
+    return max([(_product(number, unit), unit) for unit, first in zip(_UNITS, firsts) if first == most])
 
 
 def _conjugate(number):
