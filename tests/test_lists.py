@@ -249,13 +249,14 @@ class PlacesTest(unittest.TestCase):
         self.assertEqual(places[0] % 24, 0)
 
     def test_places_are_in_the_order_of_the_rows(self):
-        value = 2 * 3 ** 3 * 5 ** 2
-        latest = None
-        for place in range(0, primitive_count(value), 101):
-            number = primitive_at(value, place)
-            key = row_of(number, primes_in(number))
-            self.assertTrue(latest is None or latest < key)
-            latest = key
+        for value in (2 * 3 ** 3 * 5 ** 2, 61 ** 2, 3 * 61 ** 2):
+            latest = None
+            for place in range(0, primitive_count(value), primitive_count(value) // 211):
+                number = primitive_at(value, place)
+                key = row_of(number, primes_in(number))
+                self.assertTrue(latest is None or latest < key)
+                self.assertEqual(place_of(number), place)
+                latest = key
 
     def test_the_place_of_the_conjugate(self):
         for value in SOME_NORMS:

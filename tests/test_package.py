@@ -55,6 +55,24 @@ FUNCTIONS = {
     },
     "desk.py": {"decide": "kind, numbers"},
     "commands.py": {"split_words": "line", "is_command": "words"},
+    "texts.py": {"row_text": "row, unit", "parse_row": "text", "check_text": "number, text"},
+    "squares.py": {
+        "square_count": "value", "greatest_squares": "value", "all_squares": "value, *, limit=2000",
+        "squares_of": "number", "multiplied": "one, other",
+    },
+    "tree.py": {
+        "letters": "prime", "partner": "prime, letter", "product_at": "prime, word", "is_reduced": "prime, word",
+        "word_of": "prime, number", "reduced": "prime, word", "is_place": "prime, number",
+        "same_turn": "prime, one, other", "is_no_turn": "prime, word", "meeting": "prime, one, other",
+        "distance": "prime, one, other", "way": "prime, one, other", "middle": "prime, one, other, third",
+        "place_of": "prime, number, word", "place_count": "prime, length", "number_of": "prime, word",
+        "word_at": "prime, length, number",
+    },
+    "tables.py": {
+        "root_pair": "prime", "root_pairs": "prime", "table_of": "number, prime", "table_product": "one, other, prime",
+        "determinant": "table, prime", "number_of_table": "table, prime", "lines": "prime", "line_of": "number, prime",
+        "prime_of_line": "prime, line", "divides_by_lines": "factor, number",
+    },
 }
 CLASSES = {
     "errors.py": [

@@ -75,12 +75,7 @@ def row_of(number, primes):
     check_primes_of(number, primes)
     if not is_primitive(number):
         raise InvalidQuestion("the number is not primitive")
-    row = []
-    rest = tuple(number)
-    for prime in primes:
-        row.append(left_common(rest, (2 * prime, 0, 0, 0)))
-        rest = left_quotient(rest, row[-1])
-    return (row, rest)
+    return row_by(number, primes)
 
 
 def number_by(row, unit):
@@ -124,6 +119,16 @@ def moved(factors, place, unit):
     return found
 
 
+def row_by(number, primes):
+    """Return the row of a primitive number for the primes of its norm in some order, and the unit behind it."""
+    row = []
+    rest = tuple(number)
+    for prime in primes:
+        row.append(left_common(rest, (2 * prime, 0, 0, 0)))
+        rest = left_quotient(rest, row[-1])
+    return (row, rest)
+
+
 def check_numbers(numbers):
     """Raise InvalidNumber for what is no number in a list."""
     for number in numbers:
@@ -147,6 +152,32 @@ def check_primes_of(number, primes):
     check_not_zero(number)
     if sorted(primes) != primes_of_norm(number):
         raise InvalidQuestion("these are not the primes of the norm")
+
+
+def check_odd_prime(value, most):
+    """Raise InvalidQuestion if an integer is no odd prime up to another one, which is at most 10 ** 12."""
+    if value % 2 == 0 or value > most or not is_prime(value):
+        raise InvalidQuestion("this is no odd prime up to the bound")
+
+
+def power_in(value, prime):
+    """Return how many times a prime divides an integer other than 0."""
+    power = 0
+    while value % prime == 0:
+        value //= prime
+        power += 1
+    return power
+
+
+def power_modulo(base, exponent, modulus):
+    """Return a power of an integer modulo another one."""
+    found = 1
+    while exponent:
+        if exponent % 2:
+            found = found * base % modulus
+        base = base * base % modulus
+        exponent //= 2
+    return found
 
 
 def _check_prime(prime):
@@ -185,7 +216,7 @@ def _passes(value, base):
     while exponent % 2 == 0:
         exponent //= 2
         many += 1
-    power = _power(base, exponent, value)
+    power = power_modulo(base, exponent, value)
     if power == 1:
         return True
     # Modulo a prime, only 1 and its opposite have the square 1, so the opposite stands ahead of the first 1.
@@ -194,14 +225,3 @@ def _passes(value, base):
             return True
         power = power * power % value
     return False
-
-
-def _power(base, exponent, modulus):
-    """Return a power of an integer modulo another one."""
-    found = 1
-    while exponent:
-        if exponent % 2:
-            found = found * base % modulus
-        base = base * base % modulus
-        exponent //= 2
-    return found

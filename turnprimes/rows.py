@@ -5,7 +5,7 @@ from math import factorial
 from turnprimes.dividing import left_quotient
 from turnprimes.errors import InvalidQuestion, TooMany
 from turnprimes.factors import (
-    MOST_PRIME, check_numbers, check_primes_of, check_row, is_prime, left_primes, whole_primes,
+    MOST_PRIME, check_numbers, check_primes_of, check_row, is_prime, left_primes, power_in, whole_primes,
 )
 from turnprimes.numbers import canonical, check_not_zero, check_number, content, is_unit, norm, product, product_of
 
@@ -62,7 +62,7 @@ def factoring_count(number, primes, *, limit=2000):
         raise InvalidQuestion("a prime is above 1000")
     count = 1
     for prime, power in whole_primes(norm(number)):
-        count *= _row_count(prime, power, _power_in(content(number), prime))
+        count *= _row_count(prime, power, power_in(content(number), prime))
     if count > limit:
         raise TooMany(limit)
     return count
@@ -99,11 +99,3 @@ def _row_count(prime, power, inside):
                 after[outside + 1] = after.get(outside + 1, 0) + many * giving
         ways = after
     return ways[0]
-
-
-def _power_in(value, prime):
-    power = 0
-    while value % prime == 0:
-        value //= prime
-        power += 1
-    return power

@@ -110,11 +110,11 @@ def is_row(values, many):
     """Tell whether something is a tuple or list of so many integers."""
     if not isinstance(values, (tuple, list)) or len(values) != many:
         return False
-    return all([_is_plain_integer(value) for value in values])
+    return all([is_plain_integer(value) for value in values])
 
 
-def _is_plain_integer(value):
-    # Python takes True and False for integers; here they are none.
+def is_plain_integer(value):
+    """Tell whether something is an integer; True and False are none here, though Python takes them for some."""
     return isinstance(value, int) and not isinstance(value, bool)
 
 
@@ -129,7 +129,7 @@ def _has_form(turn):
     if not isinstance(turn, (tuple, list)) or len(turn) != 2:
         return False
     size, rows = turn
-    if not _is_plain_integer(size) or not isinstance(rows, (tuple, list)):
+    if not is_plain_integer(size) or not isinstance(rows, (tuple, list)):
         return False
     return size > 0 and len(rows) == 3 and all([is_row(row, 3) for row in rows])
 
