@@ -144,6 +144,9 @@ class ListsTest(unittest.TestCase):
         self.assertEqual(by_content(36), [(2, 288), (6, 24)])
         self.assertEqual(by_content(225), [(1, 8640), (3, 720), (5, 288), (15, 24)])
         self.assertEqual(by_content(6), [(1, 96)])
+        # The contents ascend, whatever primes they are made of.
+        self.assertEqual([own for own, _ in by_content(2025, limit=10 ** 5)], [1, 3, 5, 9, 15, 45])
+        self.assertEqual([own for own, _ in by_content(16 * 2025, limit=10 ** 5)], [4, 12, 20, 36, 60, 180])
 
     def test_contents_of_all_numbers(self):
         for value in list(BY_NORM) + [18, 36, 45, 72, 81, 150, 225, 405]:

@@ -44,7 +44,7 @@ def _is_question(words):
     """Tell whether the words behind ask are the name of a question, its kind and as many names as this takes."""
     if len(words) < 2 or KINDS.get(words[1]) != len(words) - 2:
         return False
-    return _are_names([words[0], *words[2:]])
+    return _are_names(words[:1] + words[2:])
 
 
 def _are_names(words):

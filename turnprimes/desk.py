@@ -25,13 +25,13 @@ def decide(kind, numbers):
     if kind == "content":
         return ("content", content(first))
     if kind == "primes":
-        return ("great",) if norm(first) > MOST else ("primes", *primes_of_norm(first))
+        return ("great",) if norm(first) > MOST else ("primes",) + tuple(primes_of_norm(first))
     if kind == "order":
         order = order_of(turn_of(first))
         return ("endless",) if order is None else ("order", order)
     if kind == "same":
         return ("yes",) if are_one_turn(first, last) else ("no",)
-    return ("common", *left_common(first, last))
+    return ("common",) + left_common(first, last)
 
 
 class Desk:

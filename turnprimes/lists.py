@@ -105,23 +105,22 @@ def _check_count(value, limit):
 
 def _numbers_of_odd(value):
     """Return all numbers of an odd norm, in no certain order."""
+    # Four squares that make a multiple of 4 are all even or all odd, so all such rows are numbers.
     total = 4 * value
+    pairs = _pairs_by_sum(total)
     found = []
-    for first in (0, 1):
-        pairs = _pairs_by_sum(total, first)
-        for squares, beginnings in pairs.items():
-            ends = pairs.get(total - squares, [])
-            found.extend([(*beginning, *end) for beginning in beginnings for end in ends])
+    for squares, beginnings in pairs.items():
+        ends = pairs.get(total - squares, [])
+        found.extend([(*beginning, *end) for beginning in beginnings for end in ends])
     return found
 
 
-def _pairs_by_sum(most, first):
-    """Return the pairs of even integers (first 0) or odd ones (first 1), by the sums of their squares up to one."""
+def _pairs_by_sum(most):
+    """Return the pairs of integers by the sums of their squares, up to one."""
     root = isqrt(most)
-    parts = [part for part in range(-root, root + 1) if part % 2 == first]
     found = {}
-    for one in parts:
-        for other in parts:
+    for one in range(-root, root + 1):
+        for other in range(-root, root + 1):
             squares = one * one + other * other
             if squares <= most:
                 found.setdefault(squares, []).append((one, other))

@@ -98,9 +98,8 @@ def middle(prime, one, other, third):
 def place_of(prime, number, word):
     """Return the word of the place to which the number leads the place of the word."""
     _check_number(prime, number)
-    at = product_at(prime, word)
-    _check_norm(prime, number)
-    _, led, _ = word_of(prime, product(number, at))
+    # The norm of the product is a power of the prime if that of the number is one, and only then.
+    _, led, _ = word_of(prime, product(number, product_at(prime, word)))
     return led
 
 
